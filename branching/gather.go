@@ -4,6 +4,7 @@ import (
 	"slices"
 
 	"semblance/api"
+	"semblance/bitrow"
 	"semblance/system"
 	"semblance/tauscc"
 )
@@ -60,19 +61,19 @@ func (g *gatherer) ends(classes []int) []int {
 	return slices.Compact(ends)
 }
 
-// rows tells the signature of each cycle, as the places that its ends have among all.
-func (g *gatherer) rows(ends, classes []int) []row {
-	rows := rowsOf(system.Together(g.cycles), len(ends))
+// rows tells the signature of each cycle, as the places that its ends have among all: signatures of a great system have many ends in common, and are joined once for each inert edge.
+func (g *gatherer) rows(ends, classes []int) []bitrow.Row {
+	rows := bitrow.Several(system.Together(g.cycles), len(ends))
 	for _, state := range g.order {
 		own := rows[g.cycles[state]]
 		for _, edge := range g.edges[state] {
 			if isInert(edge, classes) {
 				// What it leads to is whole already, or of the same cycle.
-				own.join(rows[g.cycles[edge.To]])
+				own.Join(rows[g.cycles[edge.To]])
 				continue
 			}
 			place, _ := slices.BinarySearch(ends, endOf(edge, classes))
-			own.add(place)
+			own.Add(place)
 		}
 	}
 	return rows
@@ -86,7 +87,7 @@ func (g *gatherer) parted(classes []int) []int {
 	var text []byte
 	for state, class := range classes {
 		text = appendWord(text[:0], uint64(class))
-		text = rows[g.cycles[state]].appendTo(text)
+		text = appendRow(text, rows[g.cycles[state]])
 		number, there := numbers[string(text)]
 		if !there {
 			// States come in their order, so that a class is numbered by its least one.
@@ -104,9 +105,9 @@ func (g *gatherer) told(classes []int) [][]api.Step {
 	rows := g.rows(ends, classes)
 	all := make([][]api.Step, len(classes))
 	for state, cycle := range g.cycles {
-		all[state] = make([]api.Step, 0, rows[cycle].size())
+		all[state] = make([]api.Step, 0, rows[cycle].Size())
 		for place, end := range ends {
-			if rows[cycle].has(place) {
+			if rows[cycle].Has(place) {
 				all[state] = append(all[state], stepOf(end, classes))
 			}
 		}

@@ -1,20 +1,23 @@
 package weak
 
-import "semblance/system"
+import (
+	"semblance/bitrow"
+	"semblance/system"
+)
 
 // parting parts all states into blocks.
 type parting struct {
-	blocks []row // each state is in one of them
-	sets   []row // all blocks that there ever were, each of which has to split the others
+	blocks []bitrow.Row // each state is in one of them
+	sets   []bitrow.Row // all blocks that there ever were, each of which has to split the others
 }
 
 // classes tells the classes of so many states in the one form: each block is split by who can come into a set with a label, and who can't, until all sets have had their turn.
 func (t table) classes(states int) []int {
-	all := emptyRow(states)
+	all := bitrow.New(states)
 	for state := range states {
-		all.add(state)
+		all.Add(state)
 	}
-	p := &parting{blocks: []row{all}, sets: []row{all}}
+	p := &parting{blocks: []bitrow.Row{all}, sets: []bitrow.Row{all}}
 	// Where each state is a block of its own, no set that waits can split any more.
 	for turn := 0; turn < len(p.sets) && len(p.blocks) < states; turn++ {
 		for _, rows := range t {
@@ -25,23 +28,23 @@ func (t table) classes(states int) []int {
 }
 
 // into tells the states whose rows have a state of a set.
-func into(set row, rows []row) row {
-	can := emptyRow(len(rows))
+func into(set bitrow.Row, rows []bitrow.Row) bitrow.Row {
+	can := bitrow.New(len(rows))
 	for state, ends := range rows {
-		if ends.meets(set) {
-			can.add(state)
+		if ends.Meets(set) {
+			can.Add(state)
 		}
 	}
 	return can
 }
 
 // split splits each block into the states that can do something, and those that can't.
-func (p *parting) split(can row) {
+func (p *parting) split(can bitrow.Row) {
 	for i, block := range p.blocks {
-		if !block.meets(can) || block.isWithin(can) {
+		if !block.Meets(can) || block.IsWithin(can) {
 			continue
 		}
-		in, out := block.parted(can)
+		in, out := block.Parted(can)
 		p.blocks[i] = in
 		p.blocks = append(p.blocks, out)
 		p.sets = append(p.sets, in, out)
@@ -52,7 +55,7 @@ func (p *parting) split(can row) {
 func (p *parting) numbered(states int) []int {
 	classes := make([]int, states)
 	for number, block := range p.blocks {
-		for state := range block.all() {
+		for state := range block.All() {
 			classes[state] = number
 		}
 	}

@@ -2,44 +2,45 @@ package weak
 
 import (
 	"semblance/api"
+	"semblance/bitrow"
 	"semblance/system"
 )
 
 // silentOf tells of each state those that come from it by silent steps, none or more.
-func silentOf(s api.System) ([]row, error) {
+func silentOf(s api.System) ([]bitrow.Row, error) {
 	if err := system.Check(s); err != nil {
 		return nil, fault(err)
 	}
 	if s.States > api.MaxPairs {
 		return nil, fault(api.ErrLong)
 	}
-	silent := emptyRows(s.States)
+	silent := bitrow.Several(s.States, s.States)
 	for state, ends := range silent {
-		ends.add(state)
+		ends.Add(state)
 	}
 	for _, edge := range s.Edges {
 		if edge.Label == api.Tau {
-			silent[edge.From].add(edge.To)
+			silent[edge.From].Add(edge.To)
 		}
 	}
 	// After a state's turn all ways are known that pass through no other states than those that have had theirs.
 	for via, behind := range silent {
-		joinWhere(silent, func(state int) bool { return silent[state].has(via) }, behind)
+		joinWhere(silent, func(state int) bool { return silent[state].Has(via) }, behind)
 	}
 	return silent, nil
 }
 
 // joinWhere joins a set to the rows of those states of which something holds.
-func joinWhere(rows []row, holds func(state int) bool, set row) {
+func joinWhere(rows []bitrow.Row, holds func(state int) bool, set bitrow.Row) {
 	for state, ends := range rows {
 		if holds(state) {
-			ends.join(set)
+			ends.Join(set)
 		}
 	}
 }
 
 // table has the weak steps of a system: by label and state, where they lead.
-type table [][]row
+type table [][]bitrow.Row
 
 // tableOf makes the table of a system.
 func tableOf(s api.System) (table, error) {
@@ -49,12 +50,12 @@ func tableOf(s api.System) (table, error) {
 	}
 	t := make(table, s.Labels)
 	for label := range t {
-		t[label] = emptyRows(s.States)
+		t[label] = bitrow.Several(s.States, s.States)
 	}
 	t[api.Tau] = silent
 	for _, edge := range s.Edges {
 		if edge.Label != api.Tau {
-			joinWhere(t[edge.Label], func(state int) bool { return silent[state].has(edge.From) }, silent[edge.To])
+			joinWhere(t[edge.Label], func(state int) bool { return silent[state].Has(edge.From) }, silent[edge.To])
 		}
 	}
 	return t, nil
@@ -65,7 +66,7 @@ func (t table) size() int {
 	size := 0
 	for _, rows := range t {
 		for _, ends := range rows {
-			size += ends.size()
+			size += ends.Size()
 		}
 	}
 	return size
@@ -80,7 +81,7 @@ func (t table) saturated(s api.System) (api.System, error) {
 	edges := make([]api.Edge, 0, size)
 	for from := range s.States {
 		for label, rows := range t {
-			for to := range rows[from].all() {
+			for to := range rows[from].All() {
 				edges = append(edges, api.Edge{From: from, Label: label, To: to})
 			}
 		}
