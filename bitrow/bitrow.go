@@ -1,4 +1,4 @@
-// Package bitrow has sets of small numbers, a bit for each: branching, weak and simul keep of each state such a row of others.
+// Package bitrow has sets of small numbers, a bit for each: branching, weak, simul and witness keep of each state such a row of others.
 package bitrow
 
 import (
@@ -28,6 +28,18 @@ func Several(many, bound int) []Row {
 		rows[i] = words[i*width : (i+1)*width : (i+1)*width]
 	}
 	return rows
+}
+
+// Close joins to each row the rows of all numbers in it, those that come in that way too: where a row tells what one step leads to, it is to tell what one or more steps do.
+func Close(rows []Row) {
+	// After a number's turn all ways are known that pass through no other numbers than those that have had theirs.
+	for via, behind := range rows {
+		for _, row := range rows {
+			if row.Has(via) {
+				row.Join(behind)
+			}
+		}
+	}
 }
 
 // Add puts a number into the set.

@@ -132,3 +132,37 @@ func TestSeveral(t *testing.T) {
 		t.Errorf("none of 300: %d", len(rows))
 	}
 }
+
+func TestClose(t *testing.T) {
+	for _, bound := range bounds {
+		for _, every := range []int{0, 1, 2, 3, 7, 31, 64} {
+			// Each number leads to that so far behind it, some to one so far ahead, and few to themselves.
+			leads := func(from, to int) bool {
+				return to == from+every && from%5 > 0 || to == from-2*every && from%11 == 0
+			}
+			rows := bitrow.Several(bound, bound)
+			for from, row := range rows {
+				for to := range bound {
+					if leads(from, to) {
+						row.Add(to)
+					}
+				}
+			}
+			bitrow.Close(rows)
+			for from, row := range rows {
+				there, work := make([]bool, bound), []int{from}
+				for len(work) > 0 {
+					at := work[0]
+					work = work[1:]
+					for to := range bound {
+						if leads(at, to) && !there[to] {
+							there[to] = true
+							work = append(work, to)
+						}
+					}
+				}
+				equal(t, fmt.Sprint("below ", bound, " by ", every, " from ", from), row, where(bound, func(n int) bool { return there[n] }))
+			}
+		}
+	}
+}

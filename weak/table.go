@@ -23,10 +23,7 @@ func silentOf(s api.System) ([]bitrow.Row, error) {
 			silent[edge.From].Add(edge.To)
 		}
 	}
-	// After a state's turn all ways are known that pass through no other states than those that have had theirs.
-	for via, behind := range silent {
-		joinWhere(silent, func(state int) bool { return silent[state].Has(via) }, behind)
-	}
+	bitrow.Close(silent)
 	return silent, nil
 }
 
